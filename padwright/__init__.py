@@ -1,0 +1,1 @@
+"""Padwright: values put as texts of a width, and read back."""
