@@ -4,13 +4,9 @@ from fractions import Fraction
 from padwright.grids import grid_value, gridded
 from padwright.ratios import is_fraction
 from padwright.wholes import is_whole
-from things import SIXTY
+from things import SIXTY, pair_of
 
 WAYS = ("down", "up", "cut", "near", "even")
-
-
-def pair_of(value):
-    return (value.numerator, value.denominator)
 
 
 def told_by_the_document(value, base, places, way):

@@ -237,7 +237,8 @@ class Checker(unittest.TestCase):
         for rule, text in (
                 ("L2", "from .errors import PadError"), ("L2", "from math import gcd"), ("L16", "import math"),
                 ("L3", "print(1)"), ("L4", "def f(*xs):\n    return xs"), ("L5", "class A(B, C):\n    pass"),
-                ("L5", "class A:\n    x = 1"), ("L6", "x = y = 1"), ("L6", "def f(x):\n    assert x"), ("L7", "x = 1 / 2"), ("L7", "x = 1.5"),
+                ("L5", "class A:\n    x = 1"), ("L6", "x = y = 1"), ("L6", "def f(x):\n    assert x"),
+                ("L7", "x = 1 / 2"), ("L7", "x = 1.5"),
                 ("L8", "def f(x):\n    return round(x)"), ("L8", "def f(min):\n    return min"),
                 ("L10", "x = '" + "a" * 120 + "'"), ("L10", "def f():\n" + "    pass\n" * 40),
                 ("L12", "def f_(_x):\n    return 1"), ("L14", "x = '\u00e4'"), ("L14", "x = '\t'"),

@@ -4,16 +4,12 @@ from fractions import Fraction
 
 from padwright.errors import NoNumber
 from padwright.ratios import difference, fraction, is_below, is_fraction
-from things import SIXTY, no_wholes
+from things import SIXTY, no_wholes, pair_of
 
 SMALL = [(top, bottom) for bottom in range(1, 7) for top in range(-13, 14)
          if Fraction(top, bottom).denominator == bottom]
 GREAT = [(SIXTY, 1), (-SIXTY, 1), (1, SIXTY), (-1, SIXTY), (SIXTY, SIXTY - 1), (SIXTY - 1, SIXTY),
          (-SIXTY, SIXTY - 1), (1 - SIXTY, SIXTY), (SIXTY - 2, SIXTY - 1), (0, 1)]
-
-
-def pair_of(value):
-    return (value.numerator, value.denominator)
 
 
 class Making(unittest.TestCase):

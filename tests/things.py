@@ -19,4 +19,9 @@ def no_wholes():
             [], [1], (), (1,), (1, 2), {}, {1: 2}, {1}, int, len, object(), Prickly()]
 
 
+def pair_of(value):
+    """The tuple that is worth as much as one of Python's own fractions."""
+    return (value.numerator, value.denominator)
+
+
 SIXTY = 10 ** 60 - 1  # the greatest number of sixty figures
