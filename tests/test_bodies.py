@@ -3,32 +3,10 @@ import unittest
 from padwright.bodies import body_of, number_in
 from padwright.errors import NoBody
 from padwright.wholes import is_whole
-from things import ALL_FIGURES, SIGNS, refusal_of, texts_of
+from things import ALL_FIGURES, SIGNS, body_told, refusal_of, texts_of
 
 BASES = range(2, 17)
 PLACES = range(7)
-
-
-def written(number, base):
-    """A number in figures of a base, by the words of 1.5."""
-    text = ""
-    while number or not text:
-        text = ALL_FIGURES[number % base] + text
-        number //= base
-    return text
-
-
-def told_by_the_document(number, base, places, point, size, mark):
-    """The body, by the words of 2.2: the whole part in groups, the point, the rest with noughts ahead."""
-    whole, rest = divmod(number, base ** places)
-    figures = written(whole, base)
-    groups = [figures]
-    while size and len(groups[0]) > size:
-        groups[:1] = [groups[0][:-size], groups[0][-size:]]
-    body = mark.join(groups)
-    if places > 0:
-        body += point + (places * "0" + written(rest, base))[-places:]
-    return body
 
 
 def numbers(base, places):
@@ -68,7 +46,7 @@ class Writing(unittest.TestCase):
                 for size in range(10):
                     for number in numbers(base, places):
                         handed = (number, base, places, ".", size, ",")
-                        self.assertEqual(body_of(*handed), told_by_the_document(*handed))
+                        self.assertEqual(body_of(*handed), body_told(*handed))
 
     def test_points_and_marks_of_whatever_sign(self):
         for point in SIGNS:
@@ -99,7 +77,7 @@ class Reading(unittest.TestCase):
             for places in PLACES:
                 for size in range(10):
                     for number in numbers(base, places):
-                        body = told_by_the_document(number, base, places, ".", size, ",")
+                        body = body_told(number, base, places, ".", size, ",")
                         got = number_in(body, base, places, ".", size, ",")
                         self.assertEqual(got, number)
                         self.assertIs(is_whole(got), True)
@@ -117,7 +95,7 @@ class Reading(unittest.TestCase):
                 for size in (0, 1, 2, 3):
                     rest = (2, places, point, size, mark)
                     # A body has each figure of its number: one of six signs is that of a number below 2 ** 6.
-                    told = {told_by_the_document(number, *rest): number for number in range(2 ** 6)}
+                    told = {body_told(number, *rest): number for number in range(2 ** 6)}
                     for text in short:
                         if text in told:
                             self.assertEqual(number_in(text, *rest), told[text])
@@ -190,7 +168,7 @@ class Reading(unittest.TestCase):
                 self.refused(last * 41 + rest, base, places, ".", 0, ",")
                 for size in range(10):
                     for number in (base ** (40 + places), base ** (41 + places) - 1):
-                        body = told_by_the_document(number, base, places, ".", size, ",")
+                        body = body_told(number, base, places, ".", size, ",")
                         self.refused(body, base, places, ".", size, ",")
 
 

@@ -2,9 +2,8 @@ import unittest
 
 from padwright.bodies import body_of, number_in
 from padwright.ends import signed, unsigned
-from things import SIGNS
+from things import SIGNS, STYLES
 
-STYLES = ("minus", "plus", "blank", "brackets", "behind")
 PUZZLING = "0123456789abcdef+-() .,~"
 
 

@@ -2,16 +2,7 @@ import unittest
 
 from padwright.ends import ends_of, signed, unsigned
 from padwright.errors import NoCore
-from things import ALL_FIGURES, SIGNS, refusal_of, texts_of
-
-ENDS = {
-    ("minus", False): ("", ""), ("minus", True): ("-", ""),
-    ("plus", False): ("+", ""), ("plus", True): ("-", ""),
-    ("blank", False): (" ", ""), ("blank", True): ("-", ""),
-    ("brackets", False): ("", ""), ("brackets", True): ("(", ")"),
-    ("behind", False): ("", ""), ("behind", True): ("", "-"),
-}
-STYLES = ("minus", "plus", "blank", "brackets", "behind")
+from things import ALL_FIGURES, ENDS, SIGNS, STYLES, refusal_of, texts_of
 
 
 class Ends(unittest.TestCase):

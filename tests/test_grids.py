@@ -4,28 +4,7 @@ from fractions import Fraction
 from padwright.grids import grid_value, gridded
 from padwright.ratios import is_fraction
 from padwright.wholes import is_whole
-from things import SIXTY, pair_of
-
-WAYS = ("down", "up", "cut", "near", "even")
-
-
-def told_by_the_document(value, base, places, way):
-    """The k, picked from the numbers of the grid round the value by the words of 1.4."""
-    worth = Fraction(*value)
-    step = Fraction(1, base ** places)
-    about = int(worth / step)
-    ks = range(about - 3, about + 4)
-    down = max(k for k in ks if k * step <= worth)
-    up = min(k for k in ks if k * step >= worth)
-    nearest = min(abs(k * step - worth) for k in ks)
-    near = [k for k in ks if abs(k * step - worth) == nearest]
-    return {
-        "down": down,
-        "up": up,
-        "cut": min((down, up), key=abs),
-        "near": max(near),
-        "even": near[0] if len(near) == 1 else [k for k in near if k % 2 == 0][0],
-    }[way]
+from things import SIXTY, WAYS, k_told, pair_of
 
 
 class Gridded(unittest.TestCase):
@@ -38,7 +17,7 @@ class Gridded(unittest.TestCase):
         for way in WAYS:
             got = gridded(value, base, places, way)
             self.assertIs(is_whole(got), True)
-            self.assertEqual(got, told_by_the_document(value, base, places, way), (value, base, places, way))
+            self.assertEqual(got, k_told(value, base, places, way), (value, base, places, way))
 
     def test_the_documents_examples(self):
         self.assertEqual(self.by_ways((5, 2), 10, 0), [2, 3, 2, 3, 2])

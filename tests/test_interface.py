@@ -1,7 +1,8 @@
-"""The names and arguments of the functions, as the interface tells them."""
+"""The names and arguments of the functions and methods, as the interface tells them."""
 
 import importlib
 import inspect
+import itertools
 import unittest
 
 FUNCTIONS = {
@@ -14,7 +15,11 @@ FUNCTIONS = {
     "ends": {"ends_of": "style below", "signed": "body style below", "unsigned": "core style"},
     "pads": {"pads_of": "length width side", "padded": "text width fill side",
              "padded_inside": "lead rest width fill"},
+    "strips": {"stripped": "text width fill side", "stripped_inside": "text lead width fill"},
+    "formreader": {"read_form": "text"},
 }
+METHODS = {"core": "value", "put": "value", "values_for": "text", "value_of": "text", "widened": "width"}
+CLASSES = {"numbers": ("NumberForm",), "words": ("WordForm", "ChoiceForm")}
 
 
 class Interface(unittest.TestCase):
@@ -25,6 +30,15 @@ class Interface(unittest.TestCase):
                 with self.subTest(file=file, name=name):
                     told = inspect.signature(getattr(module, name)).parameters.values()
                     self.assertEqual([argument.name for argument in told], arguments.split())
+                    self.assertTrue(all(argument.default is argument.empty for argument in told))
+
+    def test_each_method_is_there_with_its_arguments(self):
+        for file, names in CLASSES.items():
+            module = importlib.import_module("padwright." + file)
+            for name, (method, arguments) in itertools.product(names, METHODS.items()):
+                with self.subTest(name=name, method=method):
+                    told = inspect.signature(getattr(getattr(module, name), method)).parameters.values()
+                    self.assertEqual([argument.name for argument in told], ["self"] + arguments.split())
                     self.assertTrue(all(argument.default is argument.empty for argument in told))
 
 

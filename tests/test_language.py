@@ -167,6 +167,51 @@ def faults_of_node(node, own_methods):
     return faults
 
 
+def names_of_top(tree, kinds):
+    """The names that classes or imports of a file bind at its top."""
+    told = set()
+    for node in tree.body:
+        if isinstance(node, kinds):
+            told.update([alias.asname or alias.name for alias in node.names]
+                        if isinstance(node, ast.ImportFrom) else [node.name])
+    return told
+
+
+def faults_of_locals(tree):
+    """L15: parameters and locals that are called like a class or an import of the file."""
+    taken = names_of_top(tree, (ast.ClassDef, ast.ImportFrom))
+    bound = [(node.arg, node.lineno) for node in ast.walk(tree) if isinstance(node, ast.arg)]
+    bound += [(node.id, node.lineno) for node in ast.walk(tree)
+              if isinstance(node, ast.Name) and isinstance(node.ctx, ast.Store)]
+    return [f"L15 line {line}: {name}" for name, line in bound if name in taken]
+
+
+def is_used_as_a_class(chain):
+    """Whether a class that stands at the end of a row of nodes is called, a base, taken, or asked by isinstance."""
+    node, above = chain[-1], chain[-2]
+    if isinstance(above, ast.Tuple):
+        node, above = chain[-2], chain[-3]
+    if isinstance(above, ast.Attribute):
+        return above.attr == "__init__" and isinstance(chain[-3], ast.Call) and chain[-3].func is above
+    if isinstance(above, ast.Call):
+        asked = isinstance(above.func, ast.Name) and above.func.id == "isinstance" and above.args[1] is node
+        return above.func is node or asked
+    return isinstance(above, (ast.ClassDef, ast.ExceptHandler, ast.Raise))
+
+
+def faults_of_classes(tree, classes):
+    """L18: classes that are kept, handed on or shown."""
+    faults = []
+    rows = [[tree]]
+    while rows:
+        row = rows.pop()
+        node = row[-1]
+        if isinstance(node, ast.Name) and node.id in classes and not is_used_as_a_class(row):
+            faults.append(f"L18 line {node.lineno}: {node.id}")
+        rows.extend(row + [part] for part in ast.iter_child_nodes(node))
+    return faults
+
+
 def methods_and_values(trees):
     """The names that are methods, and those that are values of objects, in all classes."""
     methods, values = set(), set()
@@ -179,10 +224,11 @@ def methods_and_values(trees):
     return methods, values
 
 
-def faults_of(text, own_methods=frozenset()):
-    """All faults that are seen in the text of one file."""
+def faults_of(text, own_methods=frozenset(), classes=frozenset()):
+    """All faults that are seen in the text of one file; the classes are those of all files."""
     tree = ast.parse(text)
-    faults = faults_of_text(text) + faults_of_top(tree)
+    faults = faults_of_text(text) + faults_of_top(tree) + faults_of_locals(tree)
+    faults.extend(faults_of_classes(tree, classes | names_of_top(tree, ast.ClassDef)))
     for node in ast.walk(tree):
         faults.extend(faults_of_node(node, own_methods))
     return faults
@@ -204,9 +250,10 @@ class Package(unittest.TestCase):
     def test_each_file(self):
         own_methods, values = methods_and_values(self.trees.values())
         self.assertEqual(own_methods & values, set())
+        classes = {name for tree in self.trees.values() for name in names_of_top(tree, ast.ClassDef)}
         for path, text in self.sources.items():
             with self.subTest(path=path):
-                self.assertEqual(faults_of(text, own_methods), [])
+                self.assertEqual(faults_of(text, own_methods, classes), [])
 
     def drawn(self, path):
         """The names that a file draws from each other file."""
@@ -242,7 +289,12 @@ class Checker(unittest.TestCase):
                 ("L8", "def f(x):\n    return round(x)"), ("L8", "def f(min):\n    return min"),
                 ("L10", "x = '" + "a" * 120 + "'"), ("L10", "def f():\n" + "    pass\n" * 40),
                 ("L12", "def f_(_x):\n    return 1"), ("L14", "x = '\u00e4'"), ("L14", "x = '\t'"),
-                ("L15", "x = 1\nx = 2"), ("L17", "# the type of it"), ("L17", "def f(x):\n    return x.args"),
+                ("L15", "x = 1\nx = 2"), ("L15", "class A:\n    pass\n\n\ndef f(A):\n    return 1"),
+                ("L15", "from padwright.pads import padded\n\n\ndef f():\n    padded = 1"),
+                ("L18", "class A:\n    pass\n\n\ndef f():\n    return [A]"),
+                ("L18", "class A:\n    pass\n\n\ndef f(x):\n    return A.g(x)"),
+                ("L18", "class A:\n    pass\n\n\ndef f(x):\n    return x(A)"),
+                ("L17", "# the type of it"), ("L17", "def f(x):\n    return x.args"),
                 ("L19", "def f():\n    try:\n        g()\n    except Exception:\n        pass"),
                 ("L20", "def f(x):\n    return x is 0"), ("L20", "def f(x, y):\n    return x is not y"),
                 ("L21", "x: int = 1"),
@@ -255,6 +307,9 @@ class Checker(unittest.TestCase):
     def test_what_is_not_amiss_is_let_be(self):
         self.assertEqual(faults_of('"""Words."""\n\nfrom padwright.errors import PadError\n\nMOST = 500\n\n\n'
                                    'def f(xs):\n    return [x % 2 for x in xs if x is not None]\n'), [])
+        self.assertEqual(faults_of("class A:\n    pass\n\n\nclass B(A):\n    def __init__(self):\n"
+                                   "        A.__init__(self)\n\n\ndef f(x):\n    if isinstance(x, (A, B)):\n"
+                                   "        return B()\n    return isinstance(x, A)\n"), [])
 
 
 if __name__ == "__main__":

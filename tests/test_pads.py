@@ -2,9 +2,8 @@ import unittest
 
 from padwright.pads import padded, padded_inside, pads_of
 from padwright.wholes import is_whole
-from things import SIGNS
+from things import SIDES, SIGNS
 
-SIDES = ("left", "right", "middle")
 TEXTS = ["", "7", "-7", "a b", " ", "  ", "**", "0", "12,345.67", "x" * 39, "x" * 40, "x" * 41, "".join(SIGNS)]
 
 
