@@ -7,13 +7,9 @@ from padwright.errors import NoForm
 from padwright.formreader import read_form
 from padwright.numbers import NumberForm
 from padwright.words import ChoiceForm, WordForm
-from things import SIDES, SIGNS, STYLES, WAYS, no_texts, refusal_of
+from things import SIDES, SIGNS, STYLES, WAYS, fields_of, no_texts, refusal_of
 
 LOWER = "abcdefghijklmnopqrstuvwxyz"
-NUMBER_FIELDS = "figures places base sign size mark point way width fill side strict".split()
-WORD_FIELDS = "signs least most width fill side strict".split()
-CHOICE_FIELDS = "names width fill side strict".split()
-FIELDS = {NumberForm: NUMBER_FIELDS, WordForm: WORD_FIELDS, ChoiceForm: CHOICE_FIELDS}
 
 # The language once more, as rows of regular expressions, for texts that tell a form.
 SIGN = "(?:blank|[!-~])"
@@ -100,10 +96,6 @@ def at_of(text):
     return None
 
 
-def fields_of(form):
-    return [getattr(form, name) for name in FIELDS[form.__class__]]
-
-
 class Reads(unittest.TestCase):
     """5.1 to 5.4: what tells a form."""
 
@@ -111,8 +103,8 @@ class Reads(unittest.TestCase):
         got = read_form(text)
         self.assertIs(got.__class__, form.__class__, text)
         self.assertEqual(fields_of(got), fields_of(form), text)
-        self.assertEqual([field.__class__ for field in fields_of(got)],
-                         [field.__class__ for field in fields_of(form)], text)
+        self.assertEqual([field.__class__ for field in fields_of(got).values()],
+                         [field.__class__ for field in fields_of(form).values()], text)
 
     def test_the_documents_examples(self):
         self.assertEqual(read_form("number 6 2 groups 3 , width 12 fill *").put((-5, 2)), "*******-2.50")

@@ -4,19 +4,12 @@ import unittest
 from padwright.forms import Form
 from padwright.numbers import NumberForm
 from padwright.words import ChoiceForm, WordForm
-from things import STYLES
+from things import FIELDS, STYLES, fields_of
 
-NUMBER_FIELDS = "figures places base sign size mark point way width fill side strict".split()
-WORD_FIELDS = "signs least most width fill side strict".split()
-CHOICE_FIELDS = "names width fill side strict".split()
-NUMBER = dict(zip(NUMBER_FIELDS, [6, 2, 16, "brackets", 3, "_", ";", "even", 9, "*", "inside", True]))
-WORD = dict(zip(WORD_FIELDS, ["abc", 1, 4, 7, "-", "middle", True]))
-CHOICE = dict(zip(CHOICE_FIELDS, [["yes", "no"], 5, ".", "right", True]))
+NUMBER = dict(zip(FIELDS[NumberForm], [6, 2, 16, "brackets", 3, "_", ";", "even", 9, "*", "inside", True]))
+WORD = dict(zip(FIELDS[WordForm], ["abc", 1, 4, 7, "-", "middle", True]))
+CHOICE = dict(zip(FIELDS[ChoiceForm], [["yes", "no"], 5, ".", "right", True]))
 MADE = ((NumberForm, NUMBER), (WordForm, WORD), (ChoiceForm, CHOICE))
-
-
-def fields_of(form, names):
-    return {name: getattr(form, name) for name in names}
 
 
 class Fields(unittest.TestCase):
@@ -36,17 +29,17 @@ class Fields(unittest.TestCase):
 
     def test_fields_by_place_and_by_name(self):
         for made, fields in MADE:
-            self.assertEqual(fields_of(made(*fields.values()), fields), fields)
-            self.assertEqual(fields_of(made(**fields), fields), fields)
-            self.assertEqual(fields_of(made(**dict(reversed(fields.items()))), fields), fields)
+            self.assertEqual(fields_of(made(*fields.values())), fields)
+            self.assertEqual(fields_of(made(**fields)), fields)
+            self.assertEqual(fields_of(made(**dict(reversed(fields.items())))), fields)
 
     def test_arguments_and_their_defaults(self):
         asked = {
             Form: [(name, None) for name in ("width", "fill", "side", "strict")],
-            NumberForm: list(zip(NUMBER_FIELDS, [
+            NumberForm: list(zip(FIELDS[NumberForm], [
                 None, None, 10, "minus", 0, ",", ".", "near", 0, " ", "right", False])),
-            WordForm: list(zip(WORD_FIELDS, [None, None, None, 0, " ", "left", False])),
-            ChoiceForm: list(zip(CHOICE_FIELDS, [None, 0, " ", "left", False])),
+            WordForm: list(zip(FIELDS[WordForm], [None, None, None, 0, " ", "left", False])),
+            ChoiceForm: list(zip(FIELDS[ChoiceForm], [None, 0, " ", "left", False])),
         }
         for made, arguments in asked.items():
             told = inspect.signature(made).parameters.values()
@@ -54,12 +47,12 @@ class Fields(unittest.TestCase):
                               for argument in told], arguments)
 
     def test_defaults_are_fields(self):
-        self.assertEqual(fields_of(NumberForm(3, 1), NUMBER_FIELDS), dict(zip(NUMBER_FIELDS, [
+        self.assertEqual(fields_of(NumberForm(3, 1)), dict(zip(FIELDS[NumberForm], [
             3, 1, 10, "minus", 0, ",", ".", "near", 0, " ", "right", False])))
-        self.assertEqual(fields_of(WordForm("ab", 0, 2), WORD_FIELDS),
-                         dict(zip(WORD_FIELDS, ["ab", 0, 2, 0, " ", "left", False])))
-        self.assertEqual(fields_of(ChoiceForm(["ab"]), CHOICE_FIELDS),
-                         dict(zip(CHOICE_FIELDS, [["ab"], 0, " ", "left", False])))
+        self.assertEqual(fields_of(WordForm("ab", 0, 2)),
+                         dict(zip(FIELDS[WordForm], ["ab", 0, 2, 0, " ", "left", False])))
+        self.assertEqual(fields_of(ChoiceForm(["ab"])),
+                         dict(zip(FIELDS[ChoiceForm], [["ab"], 0, " ", "left", False])))
 
     def test_methods_take_their_arguments_by_name(self):
         for form, value, text in ((NumberForm(3, 1, width=5), (-1, 2), " -0.5"), (WordForm("ab", 1, 2, 3), "ab", "ab "),
@@ -86,15 +79,15 @@ class Widened(unittest.TestCase):
                 wide = form.widened(width)
                 self.assertIs(wide.__class__, made)
                 self.assertIsNot(wide, form)
-                self.assertEqual(fields_of(wide, fields), dict(fields, width=width))
-                self.assertEqual(fields_of(form, fields), fields)
+                self.assertEqual(fields_of(wide), dict(fields, width=width))
+                self.assertEqual(fields_of(form), fields)
 
     def test_each_field_alone(self):
         for made, fields in MADE:
             plain = made(*[fields[name] for name in fields][:{NumberForm: 2, WordForm: 3, ChoiceForm: 1}[made]])
             for name in fields:
-                told = dict(fields_of(plain, fields), **{name: fields[name]})
-                self.assertEqual(fields_of(made(**told).widened(11), fields), dict(told, width=11))
+                told = dict(fields_of(plain), **{name: fields[name]})
+                self.assertEqual(fields_of(made(**told).widened(11)), dict(told, width=11))
 
     def test_it_puts_in_the_new_width(self):
         form = NumberForm(3, 1, sign="plus", width=5, fill="*", side="inside")

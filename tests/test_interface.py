@@ -17,6 +17,10 @@ FUNCTIONS = {
              "padded_inside": "lead rest width fill"},
     "strips": {"stripped": "text width fill side", "stripped_inside": "text lead width fill"},
     "formreader": {"read_form": "text"},
+    "formwriter": {"show_form": "form"},
+    "looks": {"looks_of": "form"},
+    "lookfit": {"fits": "look text", "look_for": "form value", "value_in": "form at text"},
+    "orders": {"in_order": "form"},
 }
 METHODS = {"core": "value", "put": "value", "values_for": "text", "value_of": "text", "widened": "width"}
 CLASSES = {"numbers": ("NumberForm",), "words": ("WordForm", "ChoiceForm")}

@@ -5,40 +5,15 @@ from fractions import Fraction
 from padwright.errors import NoText, NoValue, TooGreat, TooWide, TwoValues
 from padwright.numbers import NumberForm
 from padwright.ratios import is_fraction
-from things import (ENDS, SIDES, SIGNS, SIXTY, STYLES, WAYS, Prickly, body_told, filled_told, k_told, no_texts,
-                    no_wholes, pair_of, reading_of, reading_told, refusal_of, texts_of)
-
-ALL_SIDES = SIDES + ("inside",)
-
-
-def ends_told(form, k):
-    return ENDS[form.sign, k < 0]
-
-
-def core_told(form, k):
-    """The core of the number of the grid whose k is told, by the words of 4.2."""
-    lead, tail = ends_told(form, k)
-    return lead + body_told(abs(k), form.base, form.places, form.point, form.size, form.mark) + tail
-
-
-def text_told(form, k):
-    """The text of that number, by the words of 4.1 and 4.2; None where the form refuses it for its width."""
-    core = core_told(form, k)
-    if form.strict and len(core) > form.width:
-        return None
-    if form.side != "inside":
-        return filled_told(core, form.width, form.fill, form.side)
-    lead = ends_told(form, k)[0]
-    return lead + form.fill * max(0, form.width - len(core)) + core[len(lead):]
+from things import (ALL_SIDES, SIGNS, SIXTY, STYLES, WAYS, core_told, k_told, ks_told, no_fractions, number_told,
+                    pair_of, reading_of, reading_told, refusal_of, text_told, texts_of)
 
 
 def values_told(form):
     """For each text that the form puts, all values that it tells and puts so, by rising worth."""
-    end = form.base ** (form.figures + form.places)
     told = {}
-    for k in range(1 - end, end):
-        value = pair_of(Fraction(k, form.base ** form.places))
-        told.setdefault(text_told(form, k), []).append(value)
+    for k in ks_told(form):
+        told.setdefault(text_told(form, k), []).append(number_told(form, k))
     told.pop(None, None)
     return told
 
@@ -154,12 +129,8 @@ class Refusals(unittest.TestCase):
         self.assertIs(refusal_of(form.put, value), put)
 
     def test_no_fractions(self):
-        # Of these the tuple (1, 2) is a fraction.
-        things = [thing for thing in no_wholes() + no_texts() if not isinstance(thing, tuple) or thing != (1, 2)]
-        things += [(2, 4), (1, 0), (1, -2), (0, 2), (True, 2), (1, True), [1, 2], (1,), (1, 2, 3), ("1", "2"), (1.0, 2),
-                   (Prickly(), 2), (1, Prickly()), Fraction(1, 2), "1/2", (2 * SIXTY, 2), "0", 0, 1]
         forms = [NumberForm(3, 1), NumberForm(1, 0, width=1, strict=True), NumberForm(1, 6, strict=True)]
-        for thing in things:
+        for thing in no_fractions():
             for form in forms:
                 self.refused(form, thing, NoValue, NoValue)
 

@@ -2,15 +2,15 @@ import unittest
 
 from padwright.errors import NoText, NoValue, TooWide, TwoValues
 from padwright.words import ChoiceForm, WordForm
-from things import SIDES, SIGNS, Prickly, filled_told, no_texts, reading_of, reading_told, refusal_of, texts_of
+from things import SIDES, SIGNS, Prickly, no_texts, put_told, reading_of, reading_told, refusal_of, texts_of
 
 
 def values_told(form, values):
     """For each text that the form puts, all of its values that are put so, in the order of the values."""
     told = {}
     for value in values:
-        if not form.strict or len(value) <= form.width:
-            told.setdefault(filled_told(value, form.width, form.fill, form.side), []).append(value)
+        told.setdefault(put_told(form, value), []).append(value)
+    told.pop(None, None)
     return told
 
 
